@@ -1,0 +1,1 @@
+"""Manydeep: webs all of whose ties are replaced, round by round."""

@@ -1,0 +1,63 @@
+"""Values for the tests: right ones of each kind, and many that are none."""
+
+TIE = (2, ((0, 1, 0),))
+BARE = (2, ())
+LONE = (1, ())
+FORKED = (3, ((0, 1, 0), (0, 2, 1)))
+ROW = (3, ((0, 2, 0), (2, 1, 0)))
+TWICE = (2, ((0, 1, 0), (0, 1, 0), (1, 0, 2)))
+RING = (4, ((0, 2, 0), (0, 3, 0), (2, 1, 0), (3, 1, 0)))
+WIDE = (14, tuple((place, place + 1, place % 3) for place in range(13)))
+
+WEBS = (LONE, (5, ()), TIE, BARE, FORKED, ROW, TWICE, RING, WIDE, (2, ((1, 0, 0),)), (2, ((0, 1, 2),)), (10 ** 99, ()))
+
+GARDENS = (
+    (TIE, (TIE,)),
+    (LONE, (BARE,)),
+    (FORKED, (ROW, FORKED)),
+    (TWICE, (TIE, FORKED, TWICE)),
+    (BARE, (BARE, BARE, (2, ((0, 1, 2),)))),
+    ((2, ((0, 1, 2),)), (RING, RING, RING)),
+)
+
+# Values that are of no kind at all, whatever is asked for.
+STRANGE = (
+    None, True, False, 0, 1, -1, 2, 10 ** 99, "", "web", "places 2", "places 2\n0 1 0", (), [], {}, ((),), (None,), (None, None),
+    (True, ()), (1, []), [1, ()], (1, {}), (1, None), (1, ""), ("1", ()), {1: ()}, (1,), ((), 1), (1, (), ()),
+    (0, ()), (-1, ()), (-(10 ** 99), ()), ((1,), ()), ((((((((((((),),),),),),),),),),),), "x" * 2000, (0,) * 3000,
+)
+
+# Tuples that are nearly webs.
+NEAR_WEBS = (
+    (2, ((0, 0, 0),)), (2, ((1, 1, 1),)),                                # equal ends
+    (2, ((0, 2, 0),)), (2, ((2, 0, 0),)), (2, ((-1, 0, 0),)), (2, ((0, -1, 0),)), (1, ((0, 1, 0),)),
+    (2, ((0, 1, 3),)), (2, ((0, 1, -1),)), (2, ((0, 1, 10 ** 99),)),     # kinds out of bounds
+    (2, ((False, 1, 0),)), (2, ((0, True, 0),)), (2, ((0, 1, False),)), (2, ((0, 1, True),)), (True, ()),
+    (2, ([0, 1, 0],)), (2, [(0, 1, 0)]), [2, ((0, 1, 0),)], (2, ({0: 1},)), (2, {(0, 1, 0): True}),
+    (2, ((0, 1),)), (2, ((0, 1, 0, 0),)), (2, ((),)), (2, (0, 1, 0)), (2, ("010",)), (2, (None,)), (2, ((0, 1, None),)),
+    (2, (("0", 1, 0),)), (2, ((0, "1", 0),)), (2, ((0, 1, "0"),)), (2, "010"), (2, ((0, 1, (0,)),)), (2, ((0, 1, [0]),)),
+    (2, ((0, 1, 1), (0, 1, 0))), (2, ((1, 0, 0), (0, 1, 0))), (3, ((0, 2, 0), (0, 1, 0))),           # unsorted
+    (3, ((0, 1, 0), (0, 2, 0), (0, 1, 0))), (2, ((0, 1, 0),), ()), (2,), ((0, 1, 0),), (((0, 1, 0),), 2),
+    (2, ((0, 1, 0), None)), (2, (None, (0, 1, 0))), (2, ((0, 1, 0), (0, 1, "0"))), (2, ((0, 1, 0), [0, 1, 0])),
+    (0, ((0, 1, 0),)), (-2, ((0, 1, 0),)), ("2", ((0, 1, 0),)), (None, ((0, 1, 0),)), (2, None),
+)
+NO_WEBS = STRANGE + NEAR_WEBS
+NO_GROWTHS = NO_WEBS + (LONE,)
+NO_BOOKS = STRANGE + NEAR_WEBS + (
+    TIE, FORKED, [TIE], (TIE, None), (TIE, TIE, TIE, TIE), (LONE,), (TIE, LONE), (FORKED,), (TIE, (2, ((0, 1, 2),))),
+    ((2, ((0, 1, 1),)),), ((2, ((0, 1, 2),)), TIE), ((TIE,),), (TIE, [2, ()]), {0: TIE}, (TIE, True),
+) + tuple((near,) for near in NEAR_WEBS)
+NO_GARDENS = STRANGE + NEAR_WEBS + WEBS + (
+    (FORKED, (TIE,)), (TIE, ()), (TIE, TIE), (TIE, [TIE]), [TIE, (TIE,)], (TIE, (TIE,), ()), (TIE,), ((TIE,), TIE),
+    (TIE, (LONE,)), (TIE, (TIE, TIE, TIE, TIE)), ((2, ((0, 1, 2),)), (TIE, TIE)), (TIE, (FORKED,)), (None, (TIE,)),
+    (TIE, None), {0: TIE, 1: (TIE,)}, (TIE, (TIE, None)), (TIE, (TIE, (2, ((0, 1, 2),)))), (TIE, True),
+) + tuple((near, (TIE, TIE, TIE)) for near in NEAR_WEBS) + tuple((TIE, (near, TIE, TIE)) for near in NEAR_WEBS)
+
+
+def raised(function, *rest, **more):
+    """The error that a call raises: its class's name and its attributes; None if it raises none."""
+    try:
+        function(*rest, **more)
+    except Exception as error:
+        return (type(error).__name__, vars(error))
+    return None
