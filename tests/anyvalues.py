@@ -61,3 +61,32 @@ def raised(function, *rest, **more):
     except Exception as error:
         return (type(error).__name__, vars(error))
     return None
+
+NO_INTEGERS = (None, True, False, "", "1", (), (1,), (None,), [], [1], {}, {1: 1}, TIE, (TIE, (TIE,)))
+NO_NUMBERS = NO_INTEGERS + (-1, -2, -(10 ** 99))
+
+NO_WISHES = STRANGE + NEAR_WEBS + WEBS + (
+    "joined", ["joined"], ("joined", 1), ("joined", ()), ("joined", None), (("joined",),), ("join",), ("Joined",), ("",),
+    ("sided", 2), ("paired", 0), ("round", 1), ("ringed", True), ("whole", ()), ("even", 2), {"joined": 1}, (b"joined",),
+    ("hues",), ("hues", 0), ("hues", 6), ("hues", -1), ("hues", True), ("hues", "3"), ("hues", (3,)), ("hues", 3, 3),
+    ["hues", 3], ("hues", [3]), ("hues", None), ("hues", 10 ** 99),
+    ("number", 0, 2), ("number", 0, 2, 1, 0), ("number", 3, 2, 1), ("number", -1, 2, 1), ("number", False, 2, 1),
+    ("number", 0, 1, 0), ("number", 0, 13, 0), ("number", 0, True, 0), ("number", 0, 2, 2), ("number", 0, 2, -1),
+    ("number", 0, 2, True), ("number", 0, 2, False), ("number", "0", 2, 1), ("number", 0, "2", 1), ("number", 0, 2, "1"),
+    ("number", 0, 12, 12), ("number", None, None, None), ["number", 0, 2, 1], ("number", 0, 0, 0), ("number", (0, 2, 1)),
+    ("far", 0, 1), ("far", 0, 1, 0), ("far", 0, 1, 13), ("far", 0, 0, 3), ("far", -1, 0, 3), ("far", 0, -1, 3),
+    ("far", True, 0, 3), ("far", 0, True, 3), ("far", False, 1, 3), ("far", 0, 1, True), ("far", "0", 1, 3),
+    ("far", 0, None, 3), ("far", 0, 1, "3"), ("far", 0, 1, 3, 0), ["far", 0, 1, 3], ("far", (0, 1), 3), ("far", [], [], 3),
+    ("apart", 0, 1), ("apart", 0, 1, 0), ("apart", 0, 1, 7), ("apart", 2, 2, 3), ("apart", -1, 0, 3),
+    ("apart", 0, -1, 3), ("apart", True, 0, 3), ("apart", 0, True, 3), ("apart", 0, 1, True), ("apart", 0, 1, "1"),
+    ("apart", 0, 1, 3, 0), ["apart", 0, 1, 3], ("apart", 0, 1, -1), ("apart", None, 1, 1), ("apart", 0, {}, 1),
+    ("not",), ("not", "joined"), ("not", ["joined"]), ("not", ("joined",), ("joined",)), ("not", ("hues", 6)), ("not", None),
+    ["not", ("joined",)], ("not", ("not",)), ("not", ("joined", 1)), ("Not", ("joined",)), ("not", ()), ("not", {}),
+    ("and",), ("and", ("joined",)), ("and", ("joined",), ("sided",), ("even",)), ("and", ("joined",), None),
+    ("and", None, ("joined",)), ("and", ("joined",), ["sided"]), ("and", ("joined",), ("hues", True)),
+    ("and", ("hues", 0), ("sided",)), ["and", ("joined",), ("sided",)], ("and", (("joined",), ("sided",))),
+    ("or",), ("or", ("joined",)), ("or", ("joined",), ("sided",), ("even",)), ("or", ("joined",), "sided"),
+    ("or", ("far", 0, 0, 1), ("joined",)), ["or", ("joined",), ("sided",)], ("or", ("joined",), ("or", ("joined",))),
+    ("xor", ("joined",), ("sided",)), (("and",), ("joined",), ("sided",)), ([], ("joined",)), ({}, ("joined",), ("sided",)),
+    ("not", ("and", ("joined",), ("or", ("sided",), ("not", ("hues", 9))))),
+)

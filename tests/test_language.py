@@ -1,5 +1,6 @@
 """Some of the rules of LANGUAGE.md that a look at the files of the package can check."""
 import ast
+import builtins
 import pathlib
 import re
 import unittest
@@ -16,6 +17,46 @@ BARRED = {
     "Protocol", "ABC", "ABCMeta", "namedtuple", "NamedTuple", "TypedDict", "abstractmethod", "register", "mro",
     "elements", "open", "input", "law", "global", "async", "eval", "exec", "float", "chr", "object", "print",
 }
+# Of what Python has at hand, what may be read; and the methods of builtin values that may be called.
+BUILTINS = {
+    "len", "range", "enumerate", "zip", "min", "max", "sum", "abs", "sorted", "reversed", "int", "str", "bool", "list",
+    "tuple", "dict", "set", "isinstance", "ord", "repr", "any", "all", "divmod", "Exception", "ValueError", "TypeError",
+    "KeyError", "IndexError", "ZeroDivisionError",
+}
+METHODS = {
+    "append", "clear", "copy", "count", "endswith", "extend", "find", "get", "index", "insert", "isalnum", "isalpha",
+    "isdigit", "islower", "isspace", "isupper", "items", "join", "keys", "ljust", "lower", "lstrip", "partition", "pop",
+    "remove", "replace", "reverse", "rfind", "rjust", "rpartition", "rsplit", "rstrip", "setdefault", "split",
+    "splitlines", "startswith", "strip", "update", "upper", "values", "zfill", "bit_length", "isascii", "add", "discard",
+}
+KEPT = {"zip", "range", "enumerate", "reversed", "map"}
+CHANGING = {"append", "extend", "pop", "insert", "remove", "clear", "update", "setdefault", "add", "discard", "reverse"}
+
+
+def stored(tree):
+    """The names that are assigned in a tree, and those of parameters."""
+    names = [node.id for node in ast.walk(tree) if isinstance(node, ast.Name) and not isinstance(node.ctx, ast.Load)]
+    return set(names + [node.arg for node in ast.walk(tree) if isinstance(node, ast.arg)])
+
+
+def read(tree):
+    return {node.id for node in ast.walk(tree) if isinstance(node, ast.Name) and isinstance(node.ctx, ast.Load)}
+
+
+def root(node):
+    """The name at the beginning of attributes and items."""
+    while isinstance(node, (ast.Attribute, ast.Subscript)):
+        node = node.value
+    return getattr(node, "id", None)
+
+
+def changes(node):
+    """The name of what a node of a tree changes."""
+    if isinstance(node, ast.Call) and isinstance(node.func, ast.Attribute) and node.func.attr in CHANGING:
+        return root(node.func.value)
+    if isinstance(node, ast.Subscript) and not isinstance(node.ctx, ast.Load):
+        return root(node)
+    return node.id if isinstance(node, ast.Name) and not isinstance(node.ctx, ast.Load) else None
 
 
 class Language(unittest.TestCase):
@@ -72,6 +113,43 @@ class Language(unittest.TestCase):
                 if isinstance(node, (ast.FunctionDef, ast.ClassDef)):
                     self.assertEqual(node.decorator_list, [], file)
                     self.assertNotIn(node.name, BARRED, file)
+
+    def test_names(self):
+        for file, tree in self.trees.items():
+            defined = {node.name for node in tree.body if isinstance(node, (ast.FunctionDef, ast.ClassDef))}
+            imported = {alias.name for node in tree.body if isinstance(node, ast.ImportFrom) for alias in node.names}
+            kept = {target.id for node in tree.body if isinstance(node, ast.Assign) for target in node.targets}
+            self.assertEqual(imported - read(tree), set(), file)
+            self.assertEqual({name for name in defined if name.startswith("_")} - read(tree), set(), file)
+            self.assertEqual((defined | kept | stored(tree)) & set(dir(builtins)), set(), file)
+            self.assertEqual(read(tree) & set(dir(builtins)) - BUILTINS, set(), file)
+            self.assertNotIn("_", read(tree), file)
+            for node in ast.walk(tree):
+                if isinstance(node, ast.FunctionDef):
+                    self.assertEqual(stored(node) & (defined | imported | kept), set(), (file, node.name))
+            bound = list(defined) + list(imported) + list(kept)
+            self.assertEqual(len(bound), len(set(bound)), file)
+
+    def test_calls_and_comparisons(self):
+        for file, tree in self.trees.items():
+            for node in ast.walk(tree):
+                at = (file, getattr(node, "lineno", None))
+                if isinstance(node, ast.Attribute) and root(node) != "self":
+                    self.assertIn(node.attr, METHODS, at)
+                if isinstance(node, ast.Assign) and isinstance(node.value, ast.Call):
+                    self.assertNotIn(getattr(node.value.func, "id", None), KEPT, at)
+                if isinstance(node, ast.Compare) and isinstance(node.ops[0], (ast.Is, ast.IsNot)):
+                    self.assertIn(getattr(node.comparators[0], "value", 0), (None, True, False), at)
+                if isinstance(node, ast.Call):
+                    for argument in node.args:
+                        self.assertNotIsInstance(argument, ast.Starred, at)
+
+    def test_loops_do_not_change_what_they_go_over(self):
+        for file, tree in self.trees.items():
+            for loop in ast.walk(tree):
+                if isinstance(loop, ast.For):
+                    changed = {changes(node) for part in loop.body for node in ast.walk(part)}
+                    self.assertEqual(read(loop.iter) & changed, set(), (file, loop.lineno))
 
     def test_no_two_files_import_from_each_other(self):
         imports = {}
