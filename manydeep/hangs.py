@@ -52,8 +52,8 @@ def ringed_mark(growth, row):
     ends_joined = parts[0] == parts[1]
     if holds_ringed(growth, row, ()):
         return (ends_joined, "always")
-    # One more tie lies in a ring itself only if the ends are joined.
-    return (ends_joined, "tied" if ends_joined and holds_ringed(growth, row, ((0, 1),)) else "never")
+    # If the ends are not joined, one more tie from 0 to 1 helps no tie into a ring: it lies in none itself.
+    return (ends_joined, "tied" if holds_ringed(growth, row, ((0, 1),)) else "never")
 
 
 def holds_ringed(web, row, more):

@@ -95,9 +95,8 @@ def _is_pairing(web, thing):
 
 
 def _is_round(web, thing):
-    if not _are_numbers(web, thing) or len(thing) != web[0] or len(thing) < 2:
-        return False
-    if len(set(thing)) < len(thing):
+    # A web of one place has no ties: so it has no ring of one tie, either.
+    if not _are_numbers(web, thing) or len(thing) != web[0] or len(set(thing)) < len(thing):
         return False
     tail, head, _ = web[1][thing[0]]
     return _goes_round(web, thing, tail, head) or _goes_round(web, thing, head, tail)

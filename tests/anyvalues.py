@@ -79,6 +79,7 @@ NO_WISHES = STRANGE + NEAR_WEBS + WEBS + (
     ("far", 0, None, 3), ("far", 0, 1, "3"), ("far", 0, 1, 3, 0), ["far", 0, 1, 3], ("far", (0, 1), 3), ("far", [], [], 3),
     ("apart", 0, 1), ("apart", 0, 1, 0), ("apart", 0, 1, 7), ("apart", 2, 2, 3), ("apart", -1, 0, 3),
     ("apart", 0, -1, 3), ("apart", True, 0, 3), ("apart", 0, True, 3), ("apart", 0, 1, True), ("apart", 0, 1, "1"),
+    ("near", 0, 1, 3), ("Far", 0, 1, 3), ("", 0, 1, 1), ("joined", 0, 1, 1), (0, 0, 1, 1), ((), 0, 1, 1), ("hue", 2), ("even", 0, 2, 1),
     ("apart", 0, 1, 3, 0), ["apart", 0, 1, 3], ("apart", 0, 1, -1), ("apart", None, 1, 1), ("apart", 0, {}, 1),
     ("not",), ("not", "joined"), ("not", ["joined"]), ("not", ("joined",), ("joined",)), ("not", ("hues", 6)), ("not", None),
     ["not", ("joined",)], ("not", ("not",)), ("not", ("joined", 1)), ("Not", ("joined",)), ("not", ()), ("not", {}),

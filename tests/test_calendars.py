@@ -242,7 +242,8 @@ class Always(unittest.TestCase):
         self.check(STILL, ("hues", 2), ("always", (((False, True),), ((False, True),))), True)
         self.check(STILL, ("hues", 2), ("always", (((0, 1),), ((0, 1),))), False)
         self.check(STILL, ("number", 0, 2, 1), ("always", ((1,), (1,))), True)
-        self.check(STILL, ("number", 0, 2, 1), ("always", ((True,), (True,))), False)
+        for mark in (True, 1.0, "1", (1,)):
+            self.check(STILL, ("number", 0, 2, 1), ("always", ((mark,), (mark,))), False)
         self.check(STILL, PAIRED, ("always", ((((), (0, 1)),), (((), (False, True)),))), False)
 
     def test_times(self):

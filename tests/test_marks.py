@@ -257,6 +257,25 @@ class HoldsBy(unittest.TestCase):
                         never = wish[0] in ("far", "apart") and max(wish[1], wish[2]) >= start[0]
                         self.check(start, wish, row, plainly.holds(web, wish) and not never)
 
+    def test_rings_that_have_to_go_over_some_ties(self):
+        # Pieces of the kind 1 have an inner place, those of the kind 2 bear no way.
+        dice = random.Random(40)
+        row = ((True, True, False), (False, True, False), (True, False, False))
+        told = {True: 0, False: 0}
+        for _ in range(2500):
+            places = dice.choice((4, 5, 5, 6))
+            pairs = dice.sample(list(itertools.combinations(range(places), 2)), min(10, places * (places - 1) // 2) - dice.randrange(2))
+            start = (places, tuple(sorted((*pair, dice.choice((0, 0, 0, 1, 1, 2))) for pair in pairs)))
+            holds = any(set(tie for tie in start[1] if tie[2] == 1) <= set(ring) for ring in rings(start))
+            self.check(start, ("round",), row, holds)
+            # The same for a way between the ends that meets all places.
+            growth = (places, tuple(tie for tie in start[1] if tie[:2] != (0, 1)))
+            closed = (places, ((0, 1, 1),) + growth[1])
+            way = any(set(tie for tie in closed[1] if tie[2] == 1) <= set(ring) for ring in rings(closed))
+            self.assertEqual(next_row((growth, BARE, BARE), ("round",), row)[0][1], way, growth)
+            told[holds] += 1
+        self.assertGreater(min(told.values()), 300)
+
     def test_against_gardens_that_are_grown(self):
         for start, book in thrown_gardens(150, 19, 3, 3):
             for n, web in enumerate(webs_of((start, book), 10, 10, 3)):
@@ -317,6 +336,16 @@ class HoldsBy(unittest.TestCase):
                 for row in ((wrong,), (mark, wrong), (wrong, mark), (mark, mark, wrong)):
                     for start in (LONE, TIE):
                         self.assertEqual(raised(holds_by, start, wish, row), ("BadMarks", {"thing": row}), (wish, row))
+
+
+def rings(web):
+    """All rings that meet all of three places or more, as lists of ties of other kinds than 2; no two ties have the same ends."""
+    ties = {frozenset(tie[:2]): tie for tie in web[1] if tie[2] != 2}
+    for rest in itertools.permutations(range(1, web[0])):
+        order = (0,) + rest
+        steps = [ties.get(frozenset(pair)) for pair in zip(order, order[1:] + order[:1])]
+        if None not in steps:
+            yield steps
 
 
 def has_places_from(wish, end):

@@ -147,6 +147,10 @@ class Papers(unittest.TestCase):
         self.check_wrong(TWO_TIES, turns, ("yes", (0, 0)), ("yes", (0,)), ("yes", (0, 1, 0)), ("yes", ()))
         self.check_wrong(LONE, turns, ("yes", ()), ("yes", (0,)), ("yes", (0, 0)))
         self.check_wrong(TIE, turns, ("yes", (0,)), ("yes", (0, 0)))
+        # Ties that lead round without meeting all places, or that meet one twice.
+        self.check_wrong((4, ((0, 1, 0), (0, 1, 0), (1, 2, 0), (1, 2, 0))), turns, ("yes", (0, 2, 3, 1)), ("yes", (2, 3, 1, 0)))
+        bow = (6, ((0, 1, 0), (0, 2, 0), (1, 2, 0), (2, 3, 0), (2, 4, 0), (3, 4, 0)))
+        self.check_wrong(bow, turns, ("yes", (0, 2, 3, 5, 4, 1)), ("yes", (3, 5, 4, 1, 0, 2)))
         # Two rings of two ties each are no ring.
         self.check_wrong((4, ((0, 1, 0), (0, 1, 0), (2, 3, 0), (2, 3, 0))), turns, ("yes", (0, 1, 2, 3)), ("yes", (0, 2, 1, 3)))
         self.check_wrong((3, ((0, 1, 0), (0, 1, 0), (1, 2, 0), (1, 2, 0))), turns, ("yes", (0, 2, 3)), ("yes", (0, 1, 2)))

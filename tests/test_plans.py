@@ -230,6 +230,23 @@ class Plans(unittest.TestCase):
         self.check(GARDEN, ("hues", 3), 0, ("plan", (2, 1), ()), True)
         self.check(GARDEN, ("hues", 3), 0, ("plan", (2, 2), ()), False)
 
+    def test_places_that_are_asked_more_than_once(self):
+        garden = (TWICE, (ROW, ROW, ROW))
+        tail, head, none = ((0,), ((0, 1), ())), ((1,), ((), (0, 1))), ((), ((), ()))
+        for first, sheet in (
+                (((0,), (0,), (1,)), ((tail,), (), (head,))), (((1,), (1,), (0,)), ((head,), (), (tail,))),
+                (((0,), (0,), ()), ((tail,), (), (none,))), (((0,), (), (1,)), ((none, tail), (), (head,)))):
+            self.check(garden, PAIRED, 1, ("plan", first, (sheet,)), False)
+        # Each inner place is asked just once by one of its ties, or not at all.
+        growth = (4, ((0, 2, 0), (1, 3, 0), (2, 3, 0)))
+        for demand in ((), (0,), (0, 1), (1,)):
+            start = (2, ((0, 1, 0),) + ((0, 1, 1),) * (2 - len(demand)))
+            others = {(): (((0,), (1,)),), (0,): (((1,),),), (0, 1): ((),), (1,): (((0,),),)}[demand][0]
+            for choice in itertools.product(((), (0,), (0, 1), (1,)), repeat=3):
+                page = tuple((lot, ((0, 1), ()) if lot == (0,) else ((), (0, 1))) for lot in others)
+                thing = ("plan", (demand,) + others, ((((demand, choice),), page),))
+                self.check((start, (growth, ROW)), PAIRED, 1, thing, is_plan((start, (growth, ROW)), PAIRED, 1, thing))
+
     def test_kinds_without_a_demand(self):
         # No tie of the kind 1 is there ahead of the first round: so its page is empty.
         self.check(GARDEN, PAIRED, 2, PLAN, True)
