@@ -62,6 +62,12 @@ def is_address(garden, thing):
     return _is_address(garden, thing)
 
 
+def need_address(garden, n, address):
+    """Raise an error unless this is the address of a place after n rounds."""
+    if not _is_address(garden, address) or len(address[0]) > n:
+        raise BadAddress(address)
+
+
 def _is_address(garden, thing):
     if not is_tuple_of(thing, 2):
         return False
@@ -146,8 +152,7 @@ def address_of(garden, n, place):
 def place_of(garden, n, address):
     """The place of the web after n rounds that has an address."""
     addresses = _addresses_after(garden, n)
-    if not _is_address(garden, address) or len(address[0]) > n:
-        raise BadAddress(address)
+    need_address(garden, n, address)
     return addresses.index(address)
 
 

@@ -22,10 +22,8 @@ def grown(garden, n):
     """The web of a garden after n rounds."""
     need_garden(garden)
     need_number(n, 0)
-    web, book = garden
-    for _ in range(n):
-        web = _after_round(web, book)
-    return web
+    start, book = garden
+    return _after_steps(start, book, n, _after_round)
 
 
 def joined_book(one, other):
@@ -41,10 +39,20 @@ def book_power(book, n):
     """The n-th power of a book."""
     need_book(book)
     need_number(n, 1)
-    power = book
-    for _ in range(n - 1):
-        power = _joined(power, book)
-    return power
+    return _after_steps(book, book, n - 1, _joined)
+
+
+def _after_steps(first, book, n, step):
+    """What comes of something, a web or a book, by n steps of one sort, each by a book."""
+    met = [first]
+    while len(met) <= n:
+        led = step(met[-1], book)
+        if led in met:
+            # From here on the same ones come again in turn.
+            begin = met.index(led)
+            return met[begin + (n - begin) % (len(met) - begin)]
+        met.append(led)
+    return met[n]
 
 
 def _joined(one, other):

@@ -83,16 +83,16 @@ def _places_told(line):
     words = line.split(" ")
     if len(words) != 2 or words[0] != "places":
         return None
-    return _number_told(words[1])
+    return number_told(words[1])
 
 
 def _tie_told(line, places):
     """The tie of a web of so many places that a line tells, None if it tells none."""
-    tie = tuple([_number_told(word) for word in line.split(" ")])
+    tie = tuple([number_told(word) for word in line.split(" ")])
     return tie if is_tie(places, tie) else None
 
 
-def _number_told(word):
+def number_told(word):
     """The integer from 0 on that Python writes as a word, None if there is none."""
     if not word.isascii() or not word.isdigit():
         return None

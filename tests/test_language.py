@@ -131,11 +131,15 @@ class Language(unittest.TestCase):
             self.assertEqual(len(bound), len(set(bound)), file)
 
     def test_calls_and_comparisons(self):
+        nodes = [node for tree in self.trees.values() for node in ast.walk(tree)]
+        # Own attributes are those that some method assigns to its own object.
+        own = {node.attr for node in nodes if isinstance(node, ast.Attribute) and isinstance(node.ctx, ast.Store) and root(node) == "self"}
+        self.assertEqual(own & METHODS, set())
         for file, tree in self.trees.items():
             for node in ast.walk(tree):
                 at = (file, getattr(node, "lineno", None))
                 if isinstance(node, ast.Attribute) and root(node) != "self":
-                    self.assertIn(node.attr, METHODS, at)
+                    self.assertIn(node.attr, METHODS | own, at)
                 if isinstance(node, ast.Assign) and isinstance(node.value, ast.Call):
                     self.assertNotIn(getattr(node.value.func, "id", None), KEPT, at)
                 if isinstance(node, ast.Compare) and isinstance(node.ops[0], (ast.Is, ast.IsNot)):
