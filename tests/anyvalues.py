@@ -1,4 +1,5 @@
 """Values for the tests: right ones of each kind, and many that are none."""
+from manydeep.yards import Yard
 
 TIE = (2, ((0, 1, 0),))
 BARE = (2, ())
@@ -20,8 +21,17 @@ GARDENS = (
     ((2, ((0, 1, 2),)), (RING, RING, RING)),
 )
 
+YARD = Yard((TIE, (TIE,)))
+KEPT = Yard((FORKED, (ROW, FORKED)))
+KEPT.deal((("promise", ("sided",)), ("promise", ("joined",))))
+WITH_YARDS = (
+    YARD, KEPT, (YARD,), [YARD], {0: YARD}, (YARD, YARD), (2, YARD), (YARD, ()), (2, (YARD,)), (2, ((YARD, 1, 0),)), (2, ((0, 1, YARD),)), (TIE, YARD),
+    (YARD, (TIE,)), (TIE, (YARD,)), (TIE, (TIE, YARD)), ("not", YARD), ("and", ("joined",), YARD), (("joined",), YARD), ("hues", YARD), ("far", YARD, YARD, 1),
+    ("yes", YARD), ("always", (YARD,)), ("fails", YARD), (YARD, 0), ("plan", YARD, (YARD,)), ({"joined": YARD},), ((YARD, YARD, YARD), [YARD, (YARD,)]),
+)
+
 # Values that are of no kind at all, whatever is asked for.
-STRANGE = (
+STRANGE = WITH_YARDS + (
     None, True, False, 0, 1, -1, 2, 10 ** 99, "", "web", "places 2", "places 2\n0 1 0", (), [], {}, ((),), (None,), (None, None),
     (True, ()), (1, []), [1, ()], (1, {}), (1, None), (1, ""), ("1", ()), {1: ()}, (1,), ((), 1), (1, (), ()),
     (0, ()), (-1, ()), (-(10 ** 99), ()), ((1,), ()), ((((((((((((),),),),),),),),),),),), "x" * 2000, (0,) * 3000,
