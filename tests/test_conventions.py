@@ -4,9 +4,15 @@ import importlib
 import itertools
 import unittest
 
-from tests.anyvalues import FORKED, NO_BOOKS, NO_GARDENS, NO_INTEGERS, NO_NUMBERS, NO_WEBS, NO_WISHES, ROW, TIE, raised
+from manydeep.yards import Yard
+from tests.anyvalues import (FORKED, NO_BOOKS, NO_GARDENS, NO_GROWTHS, NO_INTEGERS, NO_NUMBERS, NO_WEBS, NO_WISHES, RING, ROW, STRANGE, TIE, WITH_YARDS,
+                             raised)
 from tests.assorted import LONG
 from tests.test_interface import INTERFACE
+from tests.test_numbers import NO_COUNTS
+from tests.test_thick import NO_ROWS
+from tests.test_told import NO_FACTS, NO_SHELVES, SHELF
+from tests.thickones import FIVE, LOZENGE
 
 GARDEN = (TIE, LONG)
 WISH = ("or", ("paired",), ("not", ("sided",)))
@@ -19,6 +25,13 @@ WISHES, NUMBERS = ("BadWish", NO_WISHES), ("BadNumber", NO_NUMBERS)
 ROWS_OF_TIES = ("BadRow", NO_INTEGERS[:4] + ((1,), (0, 2), (0, True), [0], (0, 1, 1), ()))
 ADDRESSES = ("BadAddress", NO_INTEGERS + (((), 2), ((0,), 3), ((0, 1), 2), ((0,), True), [(), 0], ((), 0, 0)))
 MARKS = ("BadMarks", NO_INTEGERS[:4] + ((), (("one", 1),), [("one", "odd")] * 2, ("one", "one"), ((0, 1), (0, 1))))
+NO_KINDS = NO_INTEGERS + (-1, 2, 10 ** 99) + WITH_YARDS
+COUNTS = ("BadCount", NO_COUNTS + WITH_YARDS)
+GROWTHS, ROWS_OF_GROWTHS = ("BadGrowth", NO_GROWTHS), ("BadRow", NO_ROWS)
+SHELVES, FACTS_REFUSED = ("BadShelf", NO_SHELVES), ("BadFacts", NO_FACTS + WITH_YARDS)
+FACTS = ((("sided",), 1, True),)
+# What is no tuple of wishes at all; of those that are tuples, the first item that is no wish is told.
+NO_TUPLES = ("BadWish", tuple(thing for thing in STRANGE if not isinstance(thing, tuple)) + ((),))
 CALLS = {
     ("rounds", "one_round"): ((FORKED, LONG), ("web",) + WEBS, ("book",) + BOOKS),
     ("rounds", "grown"): ((GARDEN, 3), ("garden",) + GARDENS, ("n",) + NUMBERS),
@@ -77,9 +90,75 @@ CALLS = {
     ("hues", "hue_calendar"): ((GARDEN,), ("garden",) + GARDENS),
     ("hues", "judge_enough"): ((GARDEN, 2), ("garden",) + GARDENS, ("k", "BadNumber", NO_NUMBERS + (0,))),
     ("hues", "enough_holds"): ((GARDEN, 2, ("enough", 5)), ("garden",) + GARDENS, ("k", "BadNumber", NO_NUMBERS + (0,))),
+    ("numbers", "is_count"): ((("hues", 3),),),
+    ("numbers", "number_of"): ((FORKED, ("hues", 3)), ("web",) + WEBS, ("count",) + COUNTS),
+    ("numbers", "number_by"): (
+        (GARDEN, ("trees",), 60, 12), ("garden",) + GARDENS, ("count",) + COUNTS, ("n",) + NUMBERS, ("m", "BadModulus", NO_NUMBERS + (0, 1))),
+    ("numbers", "number_marks"): (
+        (LONG, ("pairings",), 60, 12), ("book",) + BOOKS, ("count",) + COUNTS, ("n",) + NUMBERS, ("m", "BadModulus", NO_NUMBERS + (0, 1))),
+    ("numbers", "judge_divided"): (
+        (GARDEN, ("hues", 3), 6), ("garden",) + GARDENS, ("count",) + COUNTS, ("m", "BadModulus", NO_NUMBERS + (0, 1))),
+    ("numbers", "divided_holds"): (
+        (GARDEN, ("hues", 2), 2, ("divided", (((0, 1), (0, 1)), ((1, 0), (0, 1)), ((0, 1), (1, 0)), ((0, 1), (0, 1))))),
+        ("garden",) + GARDENS, ("count",) + COUNTS, ("m", "BadModulus", NO_NUMBERS + (0, 1))),
+    ("speeds", "kinds_of"): ((GARDEN,), ("garden",) + GARDENS),
+    ("speeds", "leads"): ((LONG, 1, 0), ("book",) + BOOKS, ("c", "BadKind", NO_KINDS), ("d", "BadKind", NO_KINDS)),
+    ("speeds", "judge_speed"): ((GARDEN,), ("garden",) + GARDENS),
+    ("speeds", "speed_holds"): ((GARDEN, ("doubling", 0, (0, 0), (1, 0))), ("garden",) + GARDENS),
+    ("distances", "end_numbers"): ((LONG, 60), ("book",) + BOOKS, ("n",) + NUMBERS),
+    ("distances", "distance_after"): (
+        (GARDEN, 0, 1, 60), ("garden",) + GARDENS, ("p", "BadPlace", NO_KINDS), ("q", "BadPlace", NO_KINDS), ("n",) + NUMBERS),
+    ("distances", "farthest_after"): ((GARDEN, 0, 8), ("garden",) + GARDENS, ("p", "BadPlace", NO_KINDS), ("n",) + NUMBERS),
+    ("distances", "judge_near"): (
+        (GARDEN, 0, 1, 60, 10 ** 45), ("garden",) + GARDENS, ("p", "BadPlace", NO_KINDS), ("q", "BadPlace", NO_KINDS + (0,)), ("n",) + NUMBERS, ("d",) + NUMBERS),
+    ("distances", "near_holds"): (
+        (GARDEN, 0, 1, 2, 3, ("near", (((0, 1), (0,)), ((0, 1), (0,))), (0,))),
+        ("garden",) + GARDENS, ("p", "BadPlace", NO_KINDS), ("q", "BadPlace", NO_KINDS + (0,)), ("n",) + NUMBERS, ("d",) + NUMBERS),
+    ("distances", "distance_between"): (
+        (GARDEN, 3, ((), 0), ((0,), 2)), ("garden",) + GARDENS, ("n",) + NUMBERS, ("one",) + ADDRESSES, ("other",) + ADDRESSES),
+    ("distances", "next_rows"): (
+        (GARDEN, 3, ((), 0), ((0,), 2)), ("garden",) + GARDENS, ("n",) + NUMBERS, ("one",) + ADDRESSES,
+        ("other", "BadAddress", ADDRESSES[1] + (((), 0),))),
+    ("streams", "stream_numbers"): ((LONG, 40), ("book",) + BOOKS, ("n",) + NUMBERS),
+    ("streams", "stream_after"): (
+        (GARDEN, 0, 1, 40), ("garden",) + GARDENS, ("p", "BadPlace", NO_KINDS), ("q", "BadPlace", NO_KINDS + (0,)), ("n",) + NUMBERS),
+    ("streams", "judge_stream"): (
+        (GARDEN, 0, 1, 40, 10 ** 45), ("garden",) + GARDENS, ("p", "BadPlace", NO_KINDS), ("q", "BadPlace", NO_KINDS + (0,)), ("n",) + NUMBERS,
+        ("a", "BadNumber", NO_NUMBERS + (0,))),
+    ("streams", "stream_holds"): (
+        (GARDEN, 0, 1, 1, 2, ("cut", (((0,), (0,)),), (0,))), ("garden",) + GARDENS, ("p", "BadPlace", NO_KINDS), ("q", "BadPlace", NO_KINDS + (0,)),
+        ("n",) + NUMBERS, ("a", "BadNumber", NO_NUMBERS + (0,))),
+    ("streams", "stream_between"): (
+        (GARDEN, 3, ((), 0), ((0,), 2)), ("garden",) + GARDENS, ("n",) + NUMBERS, ("one",) + ADDRESSES,
+        ("other", "BadAddress", ADDRESSES[1] + (((), 0),))),
+    ("streams", "apart_ways"): ((TIE, 0, 1), ("web",) + WEBS, ("p", "BadPlace", NO_KINDS), ("q", "BadPlace", NO_KINDS + (0,))),
+    ("streams", "are_apart_ways"): ((TIE, 0, 1, ((0,),)), ("web",) + WEBS, ("p", "BadPlace", NO_KINDS), ("q", "BadPlace", NO_KINDS + (0,))),
+    ("thick", "is_thick"): ((LOZENGE,), ("growth",) + GROWTHS),
+    ("thick", "is_even_ended"): ((LOZENGE,), ("growth",) + GROWTHS),
+    ("thick", "eye_renaming"): ((LOZENGE, LOZENGE), ("one",) + GROWTHS, ("other",) + GROWTHS),
+    ("thick", "is_row"): (((LOZENGE, FIVE),),),
+    ("thick", "product"): (((LOZENGE, FIVE),), ("row",) + ROWS_OF_GROWTHS),
+    ("thick", "read_back"): ((LOZENGE,), ("growth",) + GROWTHS),
+    ("thick", "judge_rows"): (((LOZENGE,), (FIVE,)), ("one",) + ROWS_OF_GROWTHS, ("other",) + ROWS_OF_GROWTHS),
+    ("thick", "rows_hold"): (((LOZENGE,), (FIVE,), ("apart", 0)), ("one",) + ROWS_OF_GROWTHS, ("other",) + ROWS_OF_GROWTHS),
+    ("growthwords", "are_equal_rows"): (((LOZENGE,), (FIVE,)), ("one",) + ROWS_OF_GROWTHS, ("other",) + ROWS_OF_GROWTHS),
+    ("growthwords", "root_of"): (((LOZENGE, LOZENGE),), ("row",) + ROWS_OF_GROWTHS),
+    ("growthwords", "judge_exchange"): (((LOZENGE,), (LOZENGE,) * 2), ("one",) + ROWS_OF_GROWTHS, ("other",) + ROWS_OF_GROWTHS),
+    ("growthwords", "exchange_holds"): (
+        ((LOZENGE,), (LOZENGE,) * 2, ("powers", (LOZENGE,), 1, 2)), ("one",) + ROWS_OF_GROWTHS, ("other",) + ROWS_OF_GROWTHS),
+    ("growthwords", "fitting_row"): (((LOZENGE, FIVE), (FIVE, LOZENGE)), ("one",) + ROWS_OF_GROWTHS, ("other",) + ROWS_OF_GROWTHS),
+    ("told", "left"): ((SHELF, FACTS), ("shelf",) + SHELVES, ("facts",) + FACTS_REFUSED),
+    ("told", "sure"): ((SHELF, FACTS, WISH, 10 ** 30), ("shelf",) + SHELVES, ("facts",) + FACTS_REFUSED, ("wish",) + WISHES, ("n",) + NUMBERS),
+    ("told", "sure_calendar"): ((SHELF, FACTS, WISH), ("shelf",) + SHELVES, ("facts",) + FACTS_REFUSED, ("wish",) + WISHES),
+    ("told", "keen"): (
+        (SHELF, FACTS, (WISH, ("ringed",)), 60), ("shelf",) + SHELVES, ("facts",) + FACTS_REFUSED, ("wishes",) + NO_TUPLES, ("most",) + NUMBERS),
+    ("told", "judge_lots"): ((SHELF, (WISH, ("ringed",))), ("shelf",) + SHELVES, ("wishes",) + NO_TUPLES),
+    ("told", "lots_hold"): (
+        (SHELF, (("sided",), ("ringed",)), ("lots", ((0,), (1,), (2,)), ((0, 1), (1, 2), (0, 1)))), ("shelf",) + SHELVES, ("wishes",) + NO_TUPLES),
+    ("yards", "read_yard"): (("places 2\n0 1 0\ngrowth\nplaces 2\n0 1 0\npromise sided",),),
 }
 # Values that only some functions get, as `thing`: they may be anything, and may not be changed.
-THINGS = ([[1], {"a": [2]}], {"yes": [0]}, ["always", [1]], ("plan", [1], {}), ("yes", [0, 1]), ("always", ([],)), ("none", [()]))
+THINGS = WITH_YARDS + ([[1], {"a": [2]}], {"yes": [0]}, ["always", [1]], ("plan", [1], {}), ("yes", [0, 1]), ("always", ([],)), ("none", [()]))
 
 
 def plain_parts(thing):
@@ -87,6 +166,11 @@ def plain_parts(thing):
     if isinstance(thing, tuple):
         return all(plain_parts(part) for part in thing)
     return thing is None or type(thing) in (int, str, bool)
+
+
+def shown(result):
+    """What tells results apart, also True and 1."""
+    return str(result) if isinstance(result, Yard) else repr(result)
 
 
 class Conventions(unittest.TestCase):
@@ -103,12 +187,12 @@ class Conventions(unittest.TestCase):
             parameters = INTERFACE[file][name].split(" ")
             kept = copy.deepcopy(right)
             result = function(*right)
-            self.assertTrue(plain_parts(result), (name, result))
-            self.assertEqual(repr(function(*right)), repr(result))
+            self.assertTrue(plain_parts(result) or name == "read_yard", (name, result))
+            self.assertEqual(shown(function(*right)), shown(result))
             for order in itertools.permutations(list(zip(parameters, right))):
-                self.assertEqual(repr(function(**dict(order))), repr(result))
+                self.assertEqual(shown(function(**dict(order))), shown(result))
             for many in range(len(right)):
-                self.assertEqual(repr(function(*right[:many], **dict(list(zip(parameters, right))[many:]))), repr(result))
+                self.assertEqual(shown(function(*right[:many], **dict(list(zip(parameters, right))[many:]))), shown(result))
             self.assertEqual(repr(right), repr(kept))
             with self.assertRaises(TypeError):
                 function(*right[:-1])
@@ -117,10 +201,10 @@ class Conventions(unittest.TestCase):
 
     def test_true_or_false(self):
         for (file, name), (right, *_) in CALLS.items():
-            if name.startswith("is_") or name.endswith(("_holds", "_hold")) or name in ("does_hold", "holds_by", "holds_after"):
+            if name.startswith(("is_", "are_")) or name.endswith(("_holds", "_hold")) or name in ("does_hold", "holds_by", "holds_after", "leads"):
                 self.assertIn(self.function(file, name)(*right), (True, False), name)
                 self.assertIsInstance(self.function(file, name)(*right), bool, name)
-            if INTERFACE[file][name].endswith("thing") and name != "is_wish":
+            if INTERFACE[file][name].endswith("thing"):
                 self.assertIs(self.function(file, name)(*right), True, name)
 
     def test_any_value_as_thing(self):
@@ -129,7 +213,7 @@ class Conventions(unittest.TestCase):
                 for thing in THINGS + NO_WISHES + NO_WEBS:
                     kept = copy.deepcopy(thing)
                     # Two of these values happen to be an address and a row.
-                    expected = (name, thing) in (("is_address", ((), 1)), ("is_row", (0,) * 3000))
+                    expected = (file, name, thing) in (("addresses", "is_address", ((), 1)), ("addresses", "is_row", (0,) * 3000))
                     self.assertIs(self.function(file, name)(*right[:-1], thing), expected, name)
                     self.assertEqual(thing, kept)
 
