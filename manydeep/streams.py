@@ -10,9 +10,6 @@ from manydeep.tables import worths_behind, worths_until
 from manydeep.ways import is_way, ways_of
 from manydeep.webs import MOST_KINDS
 
-# In a web that is passed each tie bears one way.
-SINGLE = (1,) * MOST_KINDS
-
 
 def stream_numbers(book, n):
     """The tuple of the numbers of ways apart between the ends of the pieces of all kinds after n rounds."""
@@ -129,20 +126,25 @@ def stream_between(garden, n, one, other):
 def apart_ways(web, p, q):
     """As many ways between two places as there can be, any two apart, each as the tuple of its ties' numbers."""
     _check_places(web, p, q)
-    flow = greatest_flow(web, SINGLE, p, q)
+    flow = _ways_as_flow(web, p, q)
     return ways_of(web, flow, p, q, amount(web, flow, p))
 
 
 def are_apart_ways(web, p, q, thing):
     """Whether any value is a tuple of as many ways between two places as there can be, any two apart."""
     _check_places(web, p, q)
-    many = _greatest_amount(web, SINGLE, p, q)
+    many = amount(web, _ways_as_flow(web, p, q), p)
     if not is_tuple_of(thing, many) or not all([is_way(web, p, q, way) for way in thing]):
         return False
     numbers = []
     for way in thing:
         numbers.extend(way)
     return len(set(numbers)) == len(numbers)
+
+
+def _ways_as_flow(web, p, q):
+    # Each tie of the web itself bears one way.
+    return greatest_flow(web, (1,) * MOST_KINDS, p, q)
 
 
 def _check_places(web, p, q):
