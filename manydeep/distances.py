@@ -195,7 +195,7 @@ def next_rows(garden, n, one, other):
 
 
 def _leads_nearer(length, far, near):
-    return length is not None and far is not None and near is not None and near + length == far
+    return length is not None and near is not None and near + length == far
 
 
 def _rows_through(book, numbers, row, kind, end):

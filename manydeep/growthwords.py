@@ -71,9 +71,8 @@ def exchange_holds(one, other, thing):
 
 def _is_power(row, root, thing):
     """Whether any value is the exponent with which a row is, to the eye, a power of a root."""
-    if not is_integer(thing) or thing < 1 or len(root) * thing != len(row):
-        return False
-    return _are_equal(row, root * thing)
+    # By the length first: the exponent can be any integer.
+    return is_integer(thing) and len(root) * thing == len(row) and _are_equal(row, root * thing)
 
 
 def fitting_row(one, other):

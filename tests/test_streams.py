@@ -246,7 +246,8 @@ class Numbers(unittest.TestCase):
             self.assertEqual(raised(stream_after, GARDEN, 1, 0, thing), ("BadNumber", {"thing": thing}))
             self.assertEqual(raised(stream_between, GARDEN, thing, None, None), ("BadNumber", {"thing": thing}))
         for thing in NO_INTEGERS + (((), 2), ((0,), 2), ((0, 2), 3), ((0, 2), 1), ((0, 2, 0), 2), ((1, 2), 2), [(), 0], ((), True)):
-            self.assertEqual(raised(stream_between, GARDEN, 2, thing, thing), ("BadAddress", {"thing": thing}))
+            self.assertEqual(raised(stream_between, GARDEN, 2, thing, None), ("BadAddress", {"thing": thing}))
+            self.assertEqual(raised(stream_between, GARDEN, 2, thing, ((), 1)), ("BadAddress", {"thing": thing}))
             self.assertEqual(raised(stream_between, GARDEN, 2, ((), 1), thing), ("BadAddress", {"thing": thing}))
         self.assertEqual(raised(stream_between, GARDEN, 1, ((), 1), ((0, 2), 2)), ("BadAddress", {"thing": ((0, 2), 2)}))
         self.assertEqual(raised(stream_between, GARDEN, 2, ((), 1), ((), 1)), ("BadAddress", {"thing": ((), 1)}))
