@@ -21,12 +21,12 @@ def worths_behind(book, n, tables, is_right, worth):
     return worths
 
 
-def worths_until(book, n, led):
+def worths_until(book, n, next_worth):
     """The list of the tuples of the worths of all kinds after 0 to n rounds.
 
-    After 0 rounds all worths are 1; led tells of a growth and the worths after a round its worth after the next one.
+    After 0 rounds all worths are 1; next_worth tells of a growth and the worths after a round its next worth.
     """
     told = [(1,) * len(book)]
     for _ in range(n):
-        told.append(tuple([led(growth, told[-1]) for growth in book]))
+        told.append(tuple([next_worth(growth, told[-1]) for growth in book]))
     return told

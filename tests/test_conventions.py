@@ -5,8 +5,8 @@ import itertools
 import unittest
 
 from manydeep.yards import Yard
-from tests.anyvalues import (FORKED, NO_BOOKS, NO_GARDENS, NO_GROWTHS, NO_INTEGERS, NO_NUMBERS, NO_WEBS, NO_WISHES, RING, ROW, STRANGE, TIE, WITH_YARDS,
-                             raised)
+from tests.anyvalues import (FORKED, NO_BOOKS, NO_GARDENS, NO_GROWTHS, NO_INTEGERS, NO_NUMBERS, NO_WEBS, NO_WISHES, ROW,
+                             STRANGE, TIE, WITH_YARDS, raised)
 from tests.assorted import LONG
 from tests.test_interface import INTERFACE
 from tests.test_numbers import NO_COUNTS

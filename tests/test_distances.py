@@ -2,14 +2,15 @@ import collections
 import random
 import unittest
 
-from manydeep.addresses import address_of, is_address, place_of, row_ends, rows_at
+from manydeep.addresses import address_of, place_of, row_ends, rows_at
 from manydeep.distances import (distance_after, distance_between, end_numbers, farthest_after, judge_near, near_holds,
                                 next_rows)
 from manydeep.errors import TooMany
 from manydeep.rounds import grown
 from tests import plainly
-from tests.anyvalues import BARE, FORKED, LONE, NO_BOOKS, NO_GARDENS, NO_INTEGERS, NO_NUMBERS, NO_WISHES, RING, ROW, STRANGE, TIE, raised
-from tests.assorted import CHOSEN, DIAMOND, GARDENS, LONG, LOOSE, TAIL, TRIANGLE, thrown_gardens, thrown_web
+from tests.anyvalues import (BARE, LONE, NO_BOOKS, NO_GARDENS, NO_INTEGERS, NO_NUMBERS, NO_WISHES, ROW, STRANGE, TIE,
+                             raised)
+from tests.assorted import DIAMOND, GARDENS, LONG, LOOSE, TAIL, TRIANGLE, thrown_gardens
 from tests.mutants import is_exactly, some_mutants
 
 GARDEN = (TIE, LONG)

@@ -5,7 +5,7 @@ import unittest
 from manydeep.growthwords import are_equal_rows, exchange_holds, fitting_row, judge_exchange, root_of
 from manydeep.thick import eye_renaming, is_row
 from tests.anyvalues import NO_WISHES, STRANGE, raised
-from tests.mutants import is_exactly, mutants, some_mutants
+from tests.mutants import is_exactly, some_mutants
 from tests.test_thick import NO_ROWS
 from tests.thickones import FIVE, LOZENGE, WHEEL, disguised, is_same, made, thick_ones
 

@@ -4,10 +4,10 @@ import random
 import unittest
 
 from manydeep.numbers import divided_holds, is_count, judge_divided, number_by, number_marks, number_of
-from manydeep.rounds import grown, places_after, ties_after
 from tests import plainly
-from tests.anyvalues import BARE, FORKED, LONE, NO_BOOKS, NO_GARDENS, NO_NUMBERS, NO_WEBS, NO_WISHES, RING, ROW, STRANGE, TIE, TWICE, raised
-from tests.assorted import CHOSEN, DIAMOND, FULL, GARDENS, LONG, LOOSE, TRIANGLE, thrown_gardens, thrown_web, webs_of
+from tests.anyvalues import (BARE, LONE, NO_BOOKS, NO_GARDENS, NO_NUMBERS, NO_WEBS, NO_WISHES, RING, ROW, STRANGE, TIE,
+                             TWICE, raised)
+from tests.assorted import FULL, GARDENS, LONG, LOOSE, TRIANGLE, thrown_gardens, thrown_web, webs_of
 from tests.mutants import is_exactly, mutants, some_mutants
 
 COUNTS = (("pairings",), ("hues", 1), ("hues", 2), ("hues", 3), ("hues", 4), ("hues", 5), ("trees",))

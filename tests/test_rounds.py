@@ -146,6 +146,15 @@ class Grown(unittest.TestCase):
         self.assertEqual(grown(CHOSEN["slow with places"], 60),
                          (62, ((0, 1, 0),) + tuple((0, place, 1) for place in range(2, 62))))
 
+    def test_webs_that_come_again(self):
+        for name in ("still", "turning", "dying", "dead at once", "bare", "three without ties"):
+            web, book = CHOSEN[name]
+            for n in range(61):
+                self.assertEqual(grown(CHOSEN[name], n), web, (name, n))
+                web = put_in(web, book)
+        for n in range(4):
+            self.assertEqual(grown(CHOSEN["turning"], 10 ** 30 + n), grown(CHOSEN["turning"], n))
+
     def test_too_many_at_the_first_round_at_which_it_is_due(self):
         # After n rounds there are 4 ** n ties and 2 + 2 * (4 ** n - 1) // 3 places.
         fast = CHOSEN["fast"]
@@ -225,6 +234,14 @@ class Joined(unittest.TestCase):
         self.assertEqual(book_power((BARE, TIE, TIE_OF_ONE), 60), (BARE, BARE, BARE))
         slow = CHOSEN["slow"][1]
         self.assertEqual(book_power(slow, 60)[0], (2, ((0, 1, 0),) + ((0, 1, 1),) * 60))
+
+    def test_powers_that_come_again(self):
+        for name in ("still", "turning", "dying", "dead at once", "three without ties"):
+            book = power = CHOSEN[name][1]
+            for n in range(1, 61):
+                self.assertEqual(book_power(book, n), power, (name, n))
+                power = joined_book(power, book)
+        self.assertEqual(book_power(((2, ((1, 0, 0),)),), 10 ** 30 + 1), ((2, ((1, 0, 0),)),))
 
     def test_too_many(self):
         self.assertEqual(book_power((ties(2),), 9), (ties(512),))

@@ -4,9 +4,9 @@ import unittest
 
 from manydeep.rounds import ties_after
 from manydeep.speeds import judge_speed, kinds_of, leads, speed_holds
-from tests.anyvalues import BARE, FORKED, LONE, NO_BOOKS, NO_GARDENS, NO_INTEGERS, NO_WISHES, ROW, STRANGE, TIE, TWICE, raised
-from tests.assorted import CHOSEN, GARDENS, LONG, TAIL, thrown_gardens
-from tests.mutants import is_exactly, mutants, some_mutants
+from tests.anyvalues import BARE, LONE, NO_BOOKS, NO_GARDENS, NO_INTEGERS, NO_WISHES, ROW, STRANGE, TIE, raised
+from tests.assorted import GARDENS, LONG, thrown_gardens
+from tests.mutants import is_exactly, some_mutants
 
 TIE_OF_ONE, TIE_OF_TWO = (2, ((0, 1, 1),)), (2, ((0, 1, 2),))
 BOTH_01, BOTH_12 = (2, ((0, 1, 0), (0, 1, 1))), (2, ((0, 1, 1), (0, 1, 2)))

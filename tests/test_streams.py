@@ -7,9 +7,10 @@ from manydeep.addresses import address_of
 from manydeep.streams import (apart_ways, are_apart_ways, judge_stream, stream_after, stream_between, stream_holds,
                               stream_numbers)
 from tests import plainly
-from tests.anyvalues import BARE, FORKED, LONE, NO_BOOKS, NO_GARDENS, NO_INTEGERS, NO_NUMBERS, NO_WEBS, NO_WISHES, RING, ROW, STRANGE, TIE, TWICE, WIDE, raised
-from tests.assorted import CHOSEN, DIAMOND, FULL, GARDENS, LONG, LOOSE, TAIL, TRIANGLE, thrown_gardens, thrown_web, webs_of
-from tests.mutants import is_exactly, mutants, some_mutants
+from tests.anyvalues import (BARE, LONE, NO_BOOKS, NO_GARDENS, NO_INTEGERS, NO_NUMBERS, NO_WEBS, NO_WISHES, STRANGE,
+                             TIE, TWICE, WIDE, raised)
+from tests.assorted import DIAMOND, GARDENS, LOOSE, TRIANGLE, thrown_gardens, thrown_web
+from tests.mutants import is_exactly, some_mutants
 from tests.test_distances import is_integer, is_plain_way, webs_grown
 
 THICKER = ((2, ((0, 1, 0), (0, 1, 0), (0, 1, 1))), (3, ((0, 2, 0), (2, 1, 1))))
@@ -173,6 +174,10 @@ class Ways(unittest.TestCase):
         self.assertIs(are_apart_ways(knot, 0, 1, ((0, 3), (1, 2))), True)
         self.assertIs(are_apart_ways(knot, 0, 1, ((0, 2), (1, 2))), False)
         self.assertIs(are_apart_ways(knot, 0, 1, ((0, 1, 0, 3), (1, 2))), False)
+        # A way meets no place twice, even if it goes over no tie twice.
+        lasso = (4, ((0, 2, 0), (2, 1, 0), (2, 3, 0), (2, 3, 0)))
+        self.assertIs(are_apart_ways(lasso, 0, 1, ((0, 1),)), True)
+        self.assertIs(are_apart_ways(lasso, 0, 1, ((0, 2, 3, 1),)), False)
 
     def test_wrong_arguments(self):
         for function, rest in ((apart_ways, ()), (are_apart_ways, (None,))):

@@ -4,11 +4,11 @@ import unittest
 
 from manydeep.rounds import one_round
 from manydeep.thick import eye_renaming, is_even_ended, is_row, is_thick, judge_rows, product, read_back, rows_hold
-from tests.anyvalues import BARE, FORKED, LONE, NO_GROWTHS, NO_WISHES, RING, ROW, STRANGE, TIE, TWICE, WEBS, raised
+from tests.anyvalues import BARE, FORKED, NO_GROWTHS, NO_WISHES, RING, ROW, STRANGE, TIE, TWICE, raised
 from tests.assorted import DIAMOND, FULL, TRIANGLE, thrown_web
-from tests.mutants import is_exactly, mutants, some_mutants
-from tests.thickones import (FIVE, LOZENGE, PRISM, WHEEL, disguised, is_plain_even, is_plain_thick, is_same, leads_to, made, pairs, renamings,
-                             thick_ones, turned)
+from tests.mutants import is_exactly, some_mutants
+from tests.thickones import (FIVE, LOZENGE, PRISM, WHEEL, disguised, is_plain_even, is_plain_thick, is_same, leads_to,
+                             made, renamings, thick_ones, turned)
 
 # Thick, but not even-ended.
 UNEVEN = (5, ((0, 2, 0), (0, 3, 0), (0, 4, 0), (1, 2, 0), (1, 3, 0), (2, 3, 0), (2, 4, 0), (3, 4, 0)))

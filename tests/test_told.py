@@ -5,7 +5,7 @@ import unittest
 from manydeep.calendars import calendar, holds_after
 from manydeep.told import judge_lots, keen, left, lots_hold, sure, sure_calendar
 from tests.anyvalues import NO_GARDENS, NO_NUMBERS, NO_WISHES, STRANGE, TIE, raised
-from tests.assorted import CHOSEN, GARDENS, LONG, PLAIN, TRIANGLE, WISHES, thrown_garden, thrown_gardens, thrown_wish
+from tests.assorted import GARDENS, thrown_garden, thrown_wish
 from tests.mutants import is_exactly, some_mutants
 from tests.test_calendars import shortest_pair, told_at
 

@@ -7,9 +7,10 @@ from manydeep.errors import GardenError
 from manydeep.rounds import book_power, grown, one_round
 from manydeep.texts import garden_text
 from manydeep.yards import Yard, read_yard
-from tests.anyvalues import (BARE, FORKED, LONE, NO_GARDENS, NO_GROWTHS, NO_INTEGERS, NO_WEBS, NO_WISHES, RING, ROW, STRANGE, TIE, TWICE, raised)
-from tests.assorted import DIAMOND, GARDENS, LONG, LOOSE, TAIL, TRIANGLE, thrown_garden, thrown_gardens, thrown_web, thrown_wish
-from tests.mutants import is_exactly, mutants, some_mutants
+from tests.anyvalues import (BARE, FORKED, LONE, NO_GARDENS, NO_GROWTHS, NO_INTEGERS, NO_WEBS, NO_WISHES, ROW, STRANGE,
+                             TIE, TWICE, raised)
+from tests.assorted import GARDENS, LONG, TRIANGLE, thrown_garden, thrown_gardens, thrown_web, thrown_wish
+from tests.mutants import is_exactly, some_mutants
 
 LENGTHS = {"start": 2, "growth": 3, "kind": 2, "drop": 1, "turn": 2, "tie": 3, "cut": 3, "grow": 1, "power": 2, "promise": 2, "free": 2}
 GARDEN = (TIE, (ROW,))
