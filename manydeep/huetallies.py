@@ -19,17 +19,18 @@ def hues_tallied(web, row, k, m, fixed):
         near[tail].append((head, row[kind]))
         near[head].append((tail, row[kind]))
     begun = fixed + (-1,) * (web[0] - len(fixed))
-    tallies = {begun: _worth_of_hue(near[1], begun[:1], begun[1]) if fixed else 1}
+    tallies = {begun: _worth_of_hue(near[1], begun, begun[1]) if fixed else 1}
     unmet = list(range(len(fixed), web[0]))
     while unmet:
         place = _next_place(near, unmet)
         unmet = [other for other in unmet if other != place]
-        kept = [at < len(fixed) or _is_open(near, unmet, at) for at in range(web[0])]
+        kept = [_is_open(near, unmet, at) for at in range(web[0])]
         tallies = _tallied_further(tallies, near[place], place, kept, k, m)
     return sum(list(tallies.values())) % m
 
 
 def _is_open(near, unmet, place):
+    """Whether a place that has a hue has a tie to one that has none yet."""
     return place not in unmet and bool([other for other, numbers in near[place] if other in unmet])
 
 
@@ -63,7 +64,7 @@ def _worth_of_hue(near, hues, hue):
     """The product of the numbers of ways of the ties that lead to the places that have hues."""
     worth = 1
     for other, (same, unlike) in near:
-        if other < len(hues) and hues[other] >= 0:
+        if hues[other] >= 0:
             worth = worth * (same if hues[other] == hue else unlike)
     return worth
 
@@ -72,8 +73,5 @@ def _counted_anew(hues, kept):
     numbers = {}
     told = []
     for hue, is_kept in zip(hues, kept):
-        if is_kept and hue >= 0:
-            told.append(numbers.setdefault(hue, len(numbers)))
-        else:
-            told.append(-1)
+        told.append(numbers.setdefault(hue, len(numbers)) if is_kept else -1)
     return tuple(told)

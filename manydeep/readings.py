@@ -39,7 +39,7 @@ def _greatest_pieces(growth):
 def _hanging_pieces(growth):
     """Triples of what hangs on two places, but for what has 0 or 1: less its size, its places, these two places."""
     places, ties = growth
-    pairs = [(tail, head) for tail, head, kind in ties] + [(0, 1)]
+    pairs = [(tail, head) for tail, head, kind in ties]
     found = []
     for ends in combinations(range(places), 2):
         for inner in parts_without(places, pairs, ends[0], ends[1]):

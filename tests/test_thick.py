@@ -289,6 +289,15 @@ class ReadBack(unittest.TestCase):
         self.assertIs(read_back(self.put_in_some(LOZENGE, [LOZENGE] * 4 + [TIE])), None)
         self.assertIsNotNone(read_back(self.put_in_some(LOZENGE, [LOZENGE] * 5)))
 
+    def test_rows_of_places(self):
+        # What hangs on two places overlaps here, however the places are called.
+        for many in (3, 4, 5):
+            for order in itertools.permutations(range(2, many + 2)):
+                row = (0,) + order + (1,)
+                line = tuple((one, other, 0) for one, other in zip(row, row[1:]))
+                for more in ((), ((0, 1, 0),), ((0, order[0], 0),), ((0, order[1], 0),), ((order[0], 1, 0), (order[0], order[2], 0))):
+                    self.assertIs(read_back((many + 2, tuple(sorted(line + more)))), None)
+
     def put_in_some(self, web, growths):
         """The web in which each tie gives way to a growth of its own."""
         places, ties = web[0], []
@@ -324,6 +333,15 @@ class ReadBack(unittest.TestCase):
         for _ in range(6):
             growth = thrown_web(dice, 70, 130, 1)
             self.assertIs(read_back(growth), None)
+        # Products of growths that are greater than those in rows that are passed.
+        for many in (4, 5, 8):
+            great = (2 * many, tuple(sorted(self.prism(many))))
+            for row in ((great, LOZENGE), (LOZENGE, great), (great, FIVE), (WHEEL, great)):
+                growth = disguised(made(row), dice)
+                if growth[0] <= 70 and len(growth[1]) <= 130:
+                    found = read_back(growth)
+                    self.assertEqual([(mine[0], len(mine[1])) for mine in found], [(mine[0], len(mine[1])) for mine in row])
+                    self.assertIsNotNone(eye_renaming(made(found), growth))
 
     def prism(self, many):
         """The ties of two rings, each place of the one tied to one of the other, but for the tie from 0 to 1."""
