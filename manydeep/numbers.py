@@ -97,7 +97,7 @@ def divided_holds(garden, count, m, thing):
 
 def _show_divided(garden, count, m, thing):
     """Whether any value is a tuple of the rows of number marks in turn, until one comes again, that m divides."""
-    if not isinstance(thing, tuple) or not thing:
+    if not isinstance(thing, tuple):
         return False
     start, book = garden
     met = {}

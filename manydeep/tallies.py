@@ -22,7 +22,7 @@ def tally_mark(growth, count, row, m):
     if count[0] == "hues":
         return tuple([hues_tallied(growth, row, count[1], m, ends) for ends in ((0, 0), (0, 1))])
     tallies = _trees_tallied(growth, row, m)
-    apart = [parts for parts in tallies if parts[1] == 1 and max(parts) == 1]
+    apart = [parts for parts in tallies if max(parts) == 1]
     return (tallies.get((0,) * growth[0], 0), sum([tallies[parts] for parts in apart]) % m)
 
 
